@@ -1,0 +1,1 @@
+"""Seenrules: first-match rule lists found from a log of decisions."""

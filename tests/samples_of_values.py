@@ -1,0 +1,63 @@
+"""Values for the tests of wrong inputs."""
+
+from seenrules.errors import InvalidCase, NothingToUndo, SeenError
+from seenrules.kinds import Kind
+
+
+def nested(levels):
+    """Return a list with this many levels of lists, tuples and dicts in each other."""
+    value = [None, "a", 1]
+    for level in range(levels - 1):
+        value = [[value, 1], (value, "a"), {"a": value, 1: None}][level % 3]
+    return value
+
+
+# None of these is a word, a number, a case, a test or a text of a kind, or a list that is asked for anywhere.
+NEVER_VALID = [
+    None,
+    True,
+    False,
+    10000,
+    -10000,
+    10**30 - 1,
+    1 - 10**30,
+    "",
+    " ",
+    "\n",
+    "abcdefg",
+    "Ab",
+    "a b",
+    "a\n",
+    "a" * 200,
+    "~!\"#$&'()*+,-./",
+    {},
+    {"a": "word"},
+    {1: "a", 2: "b"},
+    {"a": "b", "b": "a"},
+    [None],
+    (None,),
+    [True, False],
+    [[]],
+    ((),),
+    [["a", "b"], ["c"]],
+    [{}, {}],
+    ["", ""],
+    ["a", 1],
+    ("a", None),
+    [1, 2],
+    (1, "is", "a"),
+    (("a", "b"),),
+    [("a", "b"), ("c", "d")],
+    ["A"] * 110,
+    [["a"]] * 110,
+    nested(6),
+    (nested(5),),
+    {"a": nested(5)},
+    Kind([], ["a", "b"]),
+    [Kind([("a", "word")], ["a", "b"])],
+    (Kind([], ["a", "b"]), "is", "a"),
+    {"a": Kind([], ["a", "b"])},
+    SeenError("a"),
+    InvalidCase("a"),
+    [NothingToUndo()],
+]
