@@ -1,6 +1,16 @@
 """Kinds: the fields of a case, the answers, and how many tests a rule may have."""
 
-from seenrules.errors import InvalidAnswers, InvalidFields, InvalidInteger, InvalidNames, InvalidText, NoField
+from seenrules.errors import (
+    InvalidAnswer,
+    InvalidAnswers,
+    InvalidCase,
+    InvalidFields,
+    InvalidInteger,
+    InvalidKind,
+    InvalidNames,
+    InvalidText,
+    NoField,
+)
 from seenrules.values import are_different, are_words, is_integer, is_list, is_number, is_word, parse_number
 
 OPERATORS = {"word": ("is", "not"), "number": ("most", "least")}
@@ -142,3 +152,21 @@ class Kind:
             return False
         sort = self.kind_of(name)
         return operator in OPERATORS[sort] and is_of_sort(limit, sort)
+
+
+def check_kind(value):
+    """Raise InvalidKind for any value that is not a kind."""
+    if not isinstance(value, Kind):
+        raise InvalidKind(value)
+
+
+def check_case(kind, value):
+    """Raise InvalidCase for any value that is not a case of a kind."""
+    if not kind.is_case(value):
+        raise InvalidCase(value)
+
+
+def check_answer(kind, value):
+    """Raise InvalidAnswer for any value that is not an answer of a kind."""
+    if value not in kind.answers():
+        raise InvalidAnswer(value)

@@ -1,6 +1,6 @@
 """Integers, words and numbers: what they are, and how they are found."""
 
-from seenrules.errors import InvalidWords
+from seenrules.errors import InvalidInteger, InvalidWords
 
 LETTERS = "abcdefghijklmnopqrstuvwxyz"
 DIGITS = "0123456789"
@@ -13,6 +13,12 @@ MOST_WORDS = 100
 def is_integer(value, low, high):
     """Tell whether any value is an integer from low to high."""
     return isinstance(value, int) and not isinstance(value, bool) and low <= value <= high
+
+
+def check_integer(value, low, high):
+    """Raise InvalidInteger for any value that is not an integer from low to high."""
+    if not is_integer(value, low, high):
+        raise InvalidInteger(value)
 
 
 def is_word(value):

@@ -2,6 +2,10 @@
 
 from seenrules.errors import InvalidCase, NothingToUndo, SeenError
 from seenrules.kinds import Kind
+from seenrules.logs import Log
+from seenrules.rulelists import RuleList
+
+BARE = Kind([], ["a", "b"])
 
 
 def nested(levels):
@@ -12,7 +16,8 @@ def nested(levels):
     return value
 
 
-# None of these is a word, a number, a case, a test or a text of a kind, or a list that is asked for anywhere.
+# None of these is a word, a number, an index, a case, a test, a rule, an entry or a text of anything, or a list that
+# is asked for anywhere; a few are kinds, logs and rule lists.
 NEVER_VALID = [
     None,
     True,
@@ -53,10 +58,16 @@ NEVER_VALID = [
     nested(6),
     (nested(5),),
     {"a": nested(5)},
-    Kind([], ["a", "b"]),
+    BARE,
     [Kind([("a", "word")], ["a", "b"])],
-    (Kind([], ["a", "b"]), "is", "a"),
-    {"a": Kind([], ["a", "b"])},
+    (BARE, "is", "a"),
+    {"a": BARE},
+    Log(BARE),
+    Log(BARE, [((), "a")]),
+    [Log(BARE, [((), "a")])],
+    RuleList(BARE, [([], "a")]),
+    (RuleList(BARE, [([], "a")]), Log(BARE)),
+    {"a": Log(BARE), "b": RuleList(BARE, [([], "b")])},
     SeenError("a"),
     InvalidCase("a"),
     [NothingToUndo()],

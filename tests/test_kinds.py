@@ -2,6 +2,7 @@ import re
 import unittest
 
 from checks import CheckedCase
+from samples_of_texts import with_one_character_otherwise
 from samples_of_values import NEVER_VALID
 from seenrules.errors import InvalidAnswers, InvalidFields, InvalidInteger, InvalidNames, InvalidText, NoField
 from seenrules.kinds import Kind
@@ -300,16 +301,6 @@ def is_text(text):
     names = [field.split(":")[0] for field in found[1].split(" ")]
     answers = found[2].split(" ")
     return len(names) == len(set(names)) and len(answers) == len(set(answers))
-
-
-def with_one_character_otherwise(text):
-    """Return the texts with one character replaced, inserted or left out."""
-    characters = "abwz`{AZ019/3:-|_ \n."
-    changed = [text[:at] + text[at + 1 :] for at in range(len(text))]
-    for at in range(len(text) + 1):
-        changed += [text[:at] + character + text[at:] for character in characters]
-        changed += [text[:at] + character + text[at + 1 :] for character in characters]
-    return changed
 
 
 class TextTest(CheckedCase):

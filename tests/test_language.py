@@ -1,6 +1,7 @@
 """Checks the rules of the language subset that a short program can check."""
 
 import ast
+import builtins
 import pathlib
 import re
 import unittest
@@ -22,6 +23,8 @@ BUILTINS = (
 METHODS = "__init__ __eq__ __repr__ __str__ __len__ __enter__ __exit__ __call__ __iter__ __contains__ __getitem__ __add__"
 # Rule L7: these take a list where a class of the package has __eq__.
 TAKE_LISTS = ("any", "all", "min", "max", "sum", "sorted")
+# Rule L23: these iterate over a generator at once.
+TAKE_GENERATORS = (*TAKE_LISTS, "list", "tuple", "dict", "enumerate", "zip")
 BARRED_NODES = (ast.Global, ast.AsyncFunctionDef, ast.Await, ast.Div)
 
 
@@ -51,7 +54,6 @@ class FilesTest(unittest.TestCase):
         for path in FILES:
             text = path.read_text("utf-8")
             self.assertRegex(text, r"\A[ -~\n]*\Z", path.name)
-            self.assertNotIn("%", text, path.name)
             lines = text.split("\n")
             self.assertLess(len(lines), 400, path.name)
             self.assertLessEqual(max([len(line) for line in lines]), 120, path.name)
@@ -94,6 +96,12 @@ class SyntaxTest(unittest.TestCase):
                     self.assertTrue(not node.name.startswith("_") or node.name in METHODS.split(), (name, node.name))
                     self.assertNotIn(node.name, BUILTINS, name)
 
+    def test_strings(self):
+        for name, tree in trees():
+            for node in ast.walk(tree):
+                if isinstance(node, ast.Constant) and isinstance(node.value, str):
+                    self.assertNotIn("%", node.value, (name, node.lineno))
+
     def test_names_and_calls(self):
         for name, tree in trees():
             for node in ast.walk(tree):
@@ -117,6 +125,47 @@ class SyntaxTest(unittest.TestCase):
                 if isinstance(node, ast.Attribute) and isinstance(node.ctx, ast.Store):
                     attributes.add(node.attr)
         self.assertEqual(methods & attributes, set())
+
+
+    def test_names_in_functions(self):
+        for name, tree in trees():
+            taken = [alias.name for node in tree.body if isinstance(node, ast.ImportFrom) for alias in node.names]
+            taken += [node.name for node in tree.body if isinstance(node, ast.ClassDef)] + dir(builtins)
+            for node in ast.walk(tree):
+                if isinstance(node, ast.arg):
+                    self.assertNotIn(node.arg, taken, (name, node.lineno))
+                if isinstance(node, ast.Name) and isinstance(node.ctx, ast.Store):
+                    self.assertNotIn(node.id, taken, (name, node.lineno))
+
+    def test_generators_are_iterated_at_once(self):
+        names, others = set(), []
+        for name, tree in trees():
+            for node in ast.walk(tree):
+                if isinstance(node, ast.FunctionDef):
+                    makes = any(isinstance(part, (ast.Yield, ast.YieldFrom)) for part in ast.walk(node))
+                    names.add(node.name) if makes else others.append(node.name)
+        self.assertEqual(names & set(others), set())
+        for name, tree in trees():
+            allowed = []
+            for node in ast.walk(tree):
+                if isinstance(node, (ast.For, ast.comprehension)):
+                    allowed.append(node.iter)
+                if isinstance(node, ast.YieldFrom):
+                    allowed.append(node.value)
+                if isinstance(node, ast.Call) and isinstance(node.func, ast.Name) and node.func.id in TAKE_GENERATORS:
+                    allowed += node.args
+            for node in ast.walk(tree):
+                if isinstance(node, ast.Call):
+                    called = node.func.id if isinstance(node.func, ast.Name) else getattr(node.func, "attr", None)
+                    self.assertTrue(called not in names or node in allowed, (name, node.lineno))
+
+    def test_a_class_with_items_bars_iteration(self):
+        for name, tree in trees():
+            for node in ast.walk(tree):
+                if isinstance(node, ast.ClassDef):
+                    methods = {row.name: row for row in node.body if isinstance(row, ast.FunctionDef)}
+                    if "__getitem__" in methods:
+                        self.assertIsInstance(methods["__iter__"].body[0], ast.Raise)
 
 
 if __name__ == "__main__":
