@@ -146,3 +146,9 @@ def check_log(value):
     """Raise InvalidLog for any value that is not a log."""
     if not isinstance(value, Log):
         raise InvalidLog(value)
+
+
+def check_room(log):
+    """Raise TooMany for a log to which no entry can be added."""
+    if len(log) == MOST_ENTRIES:
+        raise TooMany(len(log) + 1)

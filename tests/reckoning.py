@@ -105,3 +105,74 @@ def drawn_rules(draw, kind, count):
 def drawn_entries(draw, kind, count):
     """Return this many entries."""
     return [(drawn_case(draw, kind), draw.choice(kind.answers())) for index in range(count)]
+
+
+def met_sets(kind, cases):
+    """Return all sets of indexes of cases that are those that meet some condition of the kind's width."""
+    sets = {frozenset(range(len(cases)))}
+    tested = {frozenset(at for at, case in enumerate(cases) if is_met(kind, case, test)) for test in tests_beside(kind, cases)}
+    for count in range(kind.width):
+        sets |= {one & other for one in sets for other in tested}
+    return sets
+
+
+def are_core(kind, entries, indexes):
+    """Tell whether a set of indexes is a core, by the definition."""
+    sets = met_sets(kind, [case for case, answer in entries])
+    return len(indexes) > 0 and all(
+        any(entries[other][1] != entries[index][1] for other in met & indexes)
+        for index in indexes
+        for met in sets
+        if index in met
+    )
+
+
+def greatest_core(kind, entries):
+    """Return the greatest core as a list, by leaving out entries that cannot be in one."""
+    sets = met_sets(kind, [case for case, answer in entries])
+    left = frozenset(range(len(entries)))
+    while True:
+        bad = {at for at in left for met in sets if at in met and len({entries[one][1] for one in met & left}) == 1}
+        if not bad:
+            return sorted(left)
+        left -= bad
+
+
+def all_cores(kind, entries):
+    """Return all cores, as sets of indexes."""
+    sets = met_sets(kind, [case for case, answer in entries])
+    found = []
+    for length in range(1, len(entries) + 1):
+        for chosen in map(frozenset, itertools.combinations(range(len(entries)), length)):
+            if all(len({entries[at][1] for at in met & chosen}) != 1 for met in sets):
+                found.append(chosen)
+    return found
+
+
+def can_be_explained(kind, entries):
+    """Tell whether some rules explain the entries, by trying all rules in all orders."""
+    sets = met_sets(kind, [case for case, answer in entries])
+    known = {frozenset(): True}
+
+    def explained(left):
+        if left not in known:
+            known[left] = False
+            met_now = {met & left for met in sets if len({entries[at][1] for at in met & left}) == 1}
+            known[left] = any(explained(left - met) for met in met_now)
+        return known[left]
+
+    return explained(frozenset(range(len(entries))))
+
+
+def explains(rule_list, log):
+    """Tell whether a rule list belongs to a log's kind and gives all its answers."""
+    rules = rule_list.rules()
+    same = rule_list.kind == log.kind
+    return same and all(rules[decider(log.kind, rules, case)][1] == answer for case, answer in log.entries())
+
+
+def entries_of_list(draw, kind, count):
+    """Return this many entries with the answers of a drawn rule list."""
+    rules = drawn_rules(draw, kind, draw.choice((1, 2, 4, 8)))
+    cases = [drawn_case(draw, kind) for index in range(count)]
+    return [(case, rules[decider(kind, rules, case)][1]) for case in cases]
