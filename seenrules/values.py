@@ -25,7 +25,7 @@ def is_word(value):
     """Tell whether any value is a string of one to six letters from a to z."""
     if not isinstance(value, str) or not 1 <= len(value) <= LONGEST_WORD:
         return False
-    return all([letter in LETTERS for letter in value])
+    return value.isascii() and value.isalpha() and value.islower()
 
 
 def is_number(value):
@@ -66,6 +66,9 @@ def first_other(words):
     """Return the first word that is not in a list of at most a hundred words."""
     if not are_words(words, 0, MOST_WORDS):
         raise InvalidWords(words)
-    # Words of up to two letters are enough: there are more than a hundred of them.
-    candidates = [first + last for first in ["", *LETTERS] for last in LETTERS]
-    return [word for word in candidates if word not in words][0]
+    known = set(words)
+    # One of them is returned: there are more than a hundred words of up to two letters.
+    for start in ["", *LETTERS]:
+        for letter in LETTERS:
+            if start + letter not in known:
+                return start + letter

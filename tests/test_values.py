@@ -1,3 +1,5 @@
+import random
+import sys
 import unittest
 
 from checks import CheckedCase
@@ -7,6 +9,26 @@ from seenrules.kinds import Kind
 from seenrules.values import first_other, is_integer, is_number, is_word, parse_number
 
 LETTERS = "abcdefghijklmnopqrstuvwxyz"
+# All words of one and of two letters, in their order.
+SHORT_WORDS = [*LETTERS, *[first + last for first in LETTERS for last in LETTERS]]
+
+
+def lines_run(call, *arguments):
+    """Return how many lines of the package a call runs, those of loops and comprehensions each time."""
+    count = 0
+
+    def trace(frame, event, argument):
+        nonlocal count
+        count += event == "line"
+        return trace
+
+    before = sys.gettrace()
+    sys.settrace(trace)
+    try:
+        call(*arguments)
+    finally:
+        sys.settrace(before)
+    return count
 
 
 class IsIntegerTest(CheckedCase):
@@ -115,8 +137,46 @@ class FirstOtherTest(CheckedCase):
         self.assertEqual(first_other([*pairs, *letters]), "ba")
         self.assertEqual(first_other(pairs), "a")
 
+    def check(self, words, expected):
+        self.assertEqual(first_other(list(words)), expected)
+        self.assertEqual(first_other(tuple(words)), expected)
+
+    def test_no_word(self):
+        self.check([], "a")
+
+    def test_all_words_of_one_letter_in_drawn_orders(self):
+        draw = random.Random(12)
+        for turn in range(200):
+            letters = draw.sample(LETTERS, 26)
+            self.check(letters, "aa")
+            for count in range(26):
+                self.check(letters[:count], min(letters[count:]))
+
+    def test_short_words_with_one_left_out_at_each_place(self):
+        for count in range(26, 101):
+            words = SHORT_WORDS[:count]
+            self.check(words, SHORT_WORDS[count])
+            for place in range(count):
+                self.check(words[:place] + words[place + 1 :], words[place])
+
+    def test_drawn_words(self):
+        draw = random.Random(13)
+        for turn in range(300):
+            words = draw.sample(SHORT_WORDS[: draw.choice((30, 60, 110, 702))], draw.randint(0, 30))
+            words += draw.choices(["abc", "zzzzzz", *SHORT_WORDS[: draw.randint(1, 60)]], k=draw.randint(0, 70))
+            self.check(words, next(word for word in SHORT_WORDS if word not in words))
+
+    def test_no_more_work_than_is_needed(self):
+        words = SHORT_WORDS[:98]
+        self.assertEqual(first_other(words), "cu")
+        known = lines_run(first_other, ["b"] * 97)
+        self.assertLess(lines_run(first_other, words[1:]), known + 10)
+        self.assertLess(lines_run(first_other, words[:10] + words[11:]), known + 60)
+        self.assertLess(lines_run(first_other, []), 30)
+
     def test_duplicates_are_words_too(self):
         self.assertEqual(first_other(["a", "a", "b"]), "c")
+        self.check(["b"] * 50 + ["a"] * 50, "c")
 
     def test_a_hundred_words(self):
         pairs = [first + last for first in "abc" for last in LETTERS]
