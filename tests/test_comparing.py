@@ -6,7 +6,7 @@ from checks import CheckedCase
 from reckoning import HOLDS, are_met, cases_beside, decider, drawn_rules, kinds
 from samples_of_values import NEVER_VALID
 from seenrules.comparing import alike, dead_rules, may_swap, shortened
-from seenrules.errors import InvalidList, NoRule, OtherKind, TooMany
+from seenrules.errors import InvalidList, NoRule, OtherKind
 from seenrules.kinds import Kind
 from seenrules.rulelists import RuleList
 
@@ -141,12 +141,6 @@ class AlikeTest(CheckedCase):
 
 
 class SizeTest(CheckedCase):
-    def assert_too_many(self, count, call, *arguments):
-        with self.assertRaises(TooMany) as caught:
-            call(*arguments)
-        self.assertEqual(caught.exception.count, count)
-        self.assertIs(type(caught.exception.count), int)
-
     def test_exactly_2000(self):
         full = many_groups((10, 10, 5, 4))
         self.assertEqual(size_of(FOUR, all_tests(full)), 2000)

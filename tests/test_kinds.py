@@ -2,7 +2,6 @@ import re
 import unittest
 
 from checks import CheckedCase
-from samples_of_texts import with_one_character_otherwise
 from samples_of_values import NEVER_VALID
 from seenrules.errors import InvalidAnswers, InvalidFields, InvalidInteger, InvalidNames, InvalidText, NoField
 from seenrules.kinds import Kind
@@ -258,31 +257,26 @@ class ProjectedTest(CheckedCase):
 
 
 class EqualTest(CheckedCase):
-    def check(self, one, other, expected):
-        self.assertIs(one == other, expected)
-        self.assertIs(other == one, expected)
-        self.assertIs(one != other, not expected)
-
     def test_equal(self):
-        self.check(Kind(MAIL, PLACES), Kind(MAIL, PLACES, width=1), True)
-        self.check(Kind([], PLACES, width=0), Kind((), tuple(PLACES), width=0), True)
+        self.assert_equality(Kind(MAIL, PLACES), Kind(MAIL, PLACES, width=1), True)
+        self.assert_equality(Kind([], PLACES, width=0), Kind((), tuple(PLACES), width=0), True)
 
     def test_different(self):
         kind = Kind(MAIL, PLACES)
-        self.check(kind, Kind(MAIL[::-1], PLACES), False)
-        self.check(kind, Kind(MAIL[:1], PLACES), False)
-        self.check(kind, Kind([("from", "word"), ("size", "word")], PLACES), False)
-        self.check(kind, Kind([("from", "word"), ("sizes", "number")], PLACES), False)
-        self.check(kind, Kind(MAIL, PLACES[::-1]), False)
-        self.check(kind, Kind(MAIL, [*PLACES, "never"]), False)
-        self.check(kind, Kind(MAIL, PLACES, width=0), False)
-        self.check(kind, Kind(MAIL, PLACES, width=2), False)
+        self.assert_equality(kind, Kind(MAIL[::-1], PLACES), False)
+        self.assert_equality(kind, Kind(MAIL[:1], PLACES), False)
+        self.assert_equality(kind, Kind([("from", "word"), ("size", "word")], PLACES), False)
+        self.assert_equality(kind, Kind([("from", "word"), ("sizes", "number")], PLACES), False)
+        self.assert_equality(kind, Kind(MAIL, PLACES[::-1]), False)
+        self.assert_equality(kind, Kind(MAIL, [*PLACES, "never"]), False)
+        self.assert_equality(kind, Kind(MAIL, PLACES, width=0), False)
+        self.assert_equality(kind, Kind(MAIL, PLACES, width=2), False)
 
     def test_other_values(self):
         kind = Kind(MAIL, PLACES)
         for value in [*NEVER_VALID, 0, 1, "a", [], (), str(kind), (MAIL, PLACES, 1), [kind]]:
             with self.subTest(value=value):
-                self.check(kind, value, False)
+                self.assert_equality(kind, value, False)
 
     def test_repr(self):
         self.assertIsInstance(repr(Kind(MAIL, PLACES)), str)
@@ -329,13 +323,7 @@ class TextTest(CheckedCase):
     def test_one_character_otherwise(self):
         texts = ["1 | from:word size:number | inbox later", "0 | - | a b", "2 | a:word b:word c:number d:word | v w x y z"]
         for text in texts:
-            self.assertTrue(is_text(text))
-            for other in with_one_character_otherwise(text):
-                with self.subTest(other):
-                    if is_text(other):
-                        self.assertEqual(str(Kind.parse(other)), other)
-                    else:
-                        self.assert_raises_holding(InvalidText, other, Kind.parse, other)
+            self.assert_near_texts(text, is_text, Kind.parse)
 
     def test_texts_of_no_kind(self):
         texts = [

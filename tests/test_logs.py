@@ -5,7 +5,6 @@ import unittest
 
 from checks import CheckedCase
 from reckoning import drawn_entries, kinds
-from samples_of_texts import with_one_character_otherwise
 from samples_of_values import NEVER_VALID
 from seenrules.errors import (
     InvalidAnswer,
@@ -16,7 +15,6 @@ from seenrules.errors import (
     InvalidNames,
     InvalidText,
     NoEntry,
-    TooMany,
 )
 from seenrules.kinds import Kind
 from seenrules.logs import Log
@@ -57,17 +55,7 @@ WRONG_ANSWERS = [*NEVER_VALID, "never", "Inbox", "inbox ", "inbox\n", "from", ["
 WRONG_WIDTHS = [*NEVER_VALID, -1, 3, "1", [1], (1,), MAIL, LOG]
 
 
-class LogCase(CheckedCase):
-    """A test case with a check for the fields of TooMany."""
-
-    def assert_too_many(self, count, call, *arguments):
-        with self.assertRaises(TooMany) as caught:
-            call(*arguments)
-        self.assertEqual(caught.exception.count, count)
-        self.assertIs(type(caught.exception.count), int)
-
-
-class CreateTest(LogCase):
+class CreateTest(CheckedCase):
     def test_ordinary(self):
         self.assertEqual([LOG.kind, LOG.entries(), len(LOG)], [MAIL, ENTRIES, 3])
         self.assertEqual(Log(entries=ENTRIES, kind=MAIL), LOG)
@@ -112,7 +100,7 @@ class CreateTest(LogCase):
         self.assertIsInstance(own["parse"], classmethod)
 
 
-class UnchangedTest(LogCase):
+class UnchangedTest(CheckedCase):
     def test_passed_lists_may_be_changed(self):
         entries = list(ENTRIES)
         log = Log(MAIL, entries)
@@ -154,7 +142,7 @@ class UnchangedTest(LogCase):
             Log(MAIL).kind = BARE
 
 
-class IndexTest(LogCase):
+class IndexTest(CheckedCase):
     def test_entries(self):
         self.assertEqual([LOG[0], LOG[1], LOG[2]], ENTRIES)
         self.assertIs(type(LOG[1]), tuple)
@@ -166,7 +154,7 @@ class IndexTest(LogCase):
             self.assert_raises_holding(NoEntry, index, lambda at: Log(MAIL)[at], index)
 
 
-class ContainsTest(LogCase):
+class ContainsTest(CheckedCase):
     def test_cases(self):
         self.assertIs(("bob", 12) in LOG, True)
         self.assertIs(("ann", 3) in LOG, True)
@@ -186,34 +174,29 @@ class ContainsTest(LogCase):
         self.assert_all(False, lambda value: value in Log(MAIL), [*NEVER_VALID, *WRONG_CASES, ("ann", 3)])
 
 
-class EqualTest(LogCase):
-    def check(self, one, other, expected):
-        self.assertIs(one == other, expected)
-        self.assertIs(other == one, expected)
-        self.assertIs(one != other, not expected)
-
+class EqualTest(CheckedCase):
     def test_equal(self):
-        self.check(LOG, Log(Kind.parse(str(MAIL)), tuple(ENTRIES)), True)
-        self.check(Log(MAIL), Log(MAIL, []), True)
+        self.assert_equality(LOG, Log(Kind.parse(str(MAIL)), tuple(ENTRIES)), True)
+        self.assert_equality(Log(MAIL), Log(MAIL, []), True)
 
     def test_different(self):
-        self.check(LOG, Log(MAIL, ENTRIES[::-1]), False)
-        self.check(LOG, Log(MAIL, ENTRIES[:2]), False)
-        self.check(LOG, Log(MAIL, [*ENTRIES, ENTRIES[0]]), False)
-        self.check(LOG, Log(MAIL.with_width(2), ENTRIES), False)
-        self.check(LOG, LOG.replaced(0, "later"), False)
-        self.check(Log(MAIL), Log(BARE), False)
+        self.assert_equality(LOG, Log(MAIL, ENTRIES[::-1]), False)
+        self.assert_equality(LOG, Log(MAIL, ENTRIES[:2]), False)
+        self.assert_equality(LOG, Log(MAIL, [*ENTRIES, ENTRIES[0]]), False)
+        self.assert_equality(LOG, Log(MAIL.with_width(2), ENTRIES), False)
+        self.assert_equality(LOG, LOG.replaced(0, "later"), False)
+        self.assert_equality(Log(MAIL), Log(BARE), False)
 
     def test_other_values(self):
         for value in [*NEVER_VALID, 0, 1, [], (), ENTRIES, tuple(ENTRIES), TEXT, MAIL, [LOG]]:
-            self.check(LOG, value, False)
-            self.check(Log(MAIL), value, False)
+            self.assert_equality(LOG, value, False)
+            self.assert_equality(Log(MAIL), value, False)
 
     def test_repr(self):
         self.assertIsInstance(repr(LOG), str)
 
 
-class AddTest(LogCase):
+class AddTest(CheckedCase):
     def test_entries(self):
         self.assertEqual((LOG + [CY]).entries(), [*ENTRIES, CY])
         self.assertEqual((LOG + (CY, CY)).entries(), [*ENTRIES, CY, CY])
@@ -238,7 +221,7 @@ class AddTest(LogCase):
                     self.assert_raises_holding(InvalidEntries, entries, lambda value: log + value, entries)
 
 
-class StretchTest(LogCase):
+class StretchTest(CheckedCase):
     def test_all_stretches(self):
         for first, last in itertools.combinations_with_replacement(range(4), 2):
             found = LOG.stretch(first, last)
@@ -256,7 +239,7 @@ class StretchTest(LogCase):
         self.assert_raises_holding(InvalidInteger, 1, Log(MAIL).stretch, 0, 1)
 
 
-class InsertedTest(LogCase):
+class InsertedTest(CheckedCase):
     def test_all_places(self):
         for at in range(4):
             found = LOG.inserted(at, *CY)
@@ -280,7 +263,7 @@ class InsertedTest(LogCase):
                 self.assert_raises_holding(InvalidAnswer, answer, log.inserted, 0, ("cy", 1), answer)
 
 
-class WithoutAndReplacedTest(LogCase):
+class WithoutAndReplacedTest(CheckedCase):
     def test_without(self):
         for index in range(3):
             found = LOG.without(index)
@@ -305,7 +288,7 @@ class WithoutAndReplacedTest(LogCase):
             self.assert_raises_holding(InvalidAnswer, answer, LOG.replaced, 0, answer)
 
 
-class WidthAndProjectedTest(LogCase):
+class WidthAndProjectedTest(CheckedCase):
     def test_with_width(self):
         for width in (0, 1, 2):
             self.assertEqual(LOG.with_width(width), Log(MAIL.with_width(width), ENTRIES))
@@ -335,7 +318,7 @@ class WidthAndProjectedTest(LogCase):
             self.assert_raises_holding(InvalidNames, names, LOG.projected, names)
 
 
-class CasesTest(LogCase):
+class CasesTest(CheckedCase):
     def test_cases(self):
         self.assertEqual(LOG.cases(), [("ann", 3), ("bob", 12)])
         self.assertEqual((LOG + [CY, ENTRIES[1]]).cases(), [("ann", 3), ("bob", 12), ("cy", 1)])
@@ -378,7 +361,7 @@ LINE = "(?:[a-z]{1,6} (?:0|-?[1-9][0-9]{0,3}) -> (?:inbox|later))"
 MAIL_TEXT = re.compile(rf"(?:{LINE}(?:\n{LINE}){{0,16}})?")
 
 
-class TextTest(LogCase):
+class TextTest(CheckedCase):
     def test_texts(self):
         self.assertEqual([str(LOG), str(Log(MAIL)), str(Log(BARE))], [TEXT, "", ""])
         self.assertEqual(str(Log(BARE, [((), "a"), ((), "b")])), "-> a\n-> b")
@@ -404,11 +387,7 @@ class TextTest(LogCase):
 
     def test_one_character_otherwise(self):
         for text in (TEXT, "ann -40 -> inbox", "ann 0 -> later\nbob 9999 -> inbox"):
-            for other in with_one_character_otherwise(text):
-                if MAIL_TEXT.fullmatch(other):
-                    self.assertEqual(str(Log.parse(MAIL, other)), other)
-                else:
-                    self.assert_raises_holding(InvalidText, other, Log.parse, MAIL, other)
+            self.assert_near_texts(text, MAIL_TEXT.fullmatch, lambda other: Log.parse(MAIL, other))
 
     def test_17_and_18_lines(self):
         text = "\n".join(["ann 3 -> inbox"] * 17)

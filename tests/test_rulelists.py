@@ -5,7 +5,6 @@ import unittest
 
 from checks import CheckedCase
 from reckoning import decider, drawn_case, drawn_rules, is_met, kinds
-from samples_of_texts import with_one_character_otherwise
 from samples_of_values import NEVER_VALID
 from seenrules.errors import InvalidCase, InvalidKind, InvalidRules, InvalidText, NoRule
 from seenrules.kinds import Kind
@@ -168,28 +167,23 @@ class IndexTest(CheckedCase):
 
 
 class EqualTest(CheckedCase):
-    def check(self, one, other, expected):
-        self.assertIs(one == other, expected)
-        self.assertIs(other == one, expected)
-        self.assertIs(one != other, not expected)
-
     def test_equal(self):
-        self.check(RuleList(MAIL, RULES), RuleList(Kind.parse(str(MAIL)), tuple(RULES)), True)
+        self.assert_equality(RuleList(MAIL, RULES), RuleList(Kind.parse(str(MAIL)), tuple(RULES)), True)
 
     def test_different(self):
         rule_list = RuleList(MAIL, RULES)
-        self.check(rule_list, RuleList(MAIL, [RULES[1], RULES[0], RULES[2]]), False)
-        self.check(rule_list, RuleList(MAIL, [(RULES[0][0][::-1], "inbox"), *RULES[1:]]), False)
-        self.check(rule_list, RuleList(MAIL, [(RULES[0][0], "later"), *RULES[1:]]), False)
-        self.check(rule_list, RuleList(MAIL, [*RULES, LAST]), False)
-        self.check(rule_list, RuleList(MAIL, [*RULES[:2], ([], "later")]), False)
-        self.check(RuleList(MAIL, [LAST]), RuleList(MAIL.with_width(1), [LAST]), False)
-        self.check(RuleList(MAIL, [LAST]), RuleList(MAIL.projected(["size"]), [LAST]), False)
+        self.assert_equality(rule_list, RuleList(MAIL, [RULES[1], RULES[0], RULES[2]]), False)
+        self.assert_equality(rule_list, RuleList(MAIL, [(RULES[0][0][::-1], "inbox"), *RULES[1:]]), False)
+        self.assert_equality(rule_list, RuleList(MAIL, [(RULES[0][0], "later"), *RULES[1:]]), False)
+        self.assert_equality(rule_list, RuleList(MAIL, [*RULES, LAST]), False)
+        self.assert_equality(rule_list, RuleList(MAIL, [*RULES[:2], ([], "later")]), False)
+        self.assert_equality(RuleList(MAIL, [LAST]), RuleList(MAIL.with_width(1), [LAST]), False)
+        self.assert_equality(RuleList(MAIL, [LAST]), RuleList(MAIL.projected(["size"]), [LAST]), False)
 
     def test_other_values(self):
         rule_list = RuleList(MAIL, RULES)
         for value in [*NEVER_VALID, 0, 1, [], (), RULES, tuple(RULES), TEXT, MAIL, [rule_list], (MAIL, RULES)]:
-            self.check(rule_list, value, False)
+            self.assert_equality(rule_list, value, False)
 
     def test_repr(self):
         self.assertIsInstance(repr(RuleList(MAIL, RULES)), str)
@@ -286,12 +280,7 @@ class TextTest(CheckedCase):
 
     def test_one_character_otherwise(self):
         for text in (TEXT, "later if size least -40\ninbox", "inbox"):
-            self.assertIsNotNone(MAIL_TEXT.fullmatch(text))
-            for other in with_one_character_otherwise(text):
-                if MAIL_TEXT.fullmatch(other):
-                    self.assertEqual(str(RuleList.parse(MAIL, other)), other)
-                else:
-                    self.assert_raises_holding(InvalidText, other, RuleList.parse, MAIL, other)
+            self.assert_near_texts(text, MAIL_TEXT.fullmatch, lambda other: RuleList.parse(MAIL, other))
 
     def test_24_and_25_lines(self):
         text = "\n".join(["inbox"] * 24)

@@ -7,7 +7,7 @@ from reckoning import are_core, cases_beside, drawn_case, explains, greatest_cor
 from samples_of_logs import BARE, CORNER, NO_LOGS, PAIR, SQUARE, drawn_logs, logs_of_lists
 from samples_of_values import NEVER_VALID
 from seenrules.cores import core_of, small_core
-from seenrules.errors import DoesNotFit, InvalidCase, InvalidLog, TooMany
+from seenrules.errors import DoesNotFit, InvalidCase, InvalidLog
 from seenrules.kinds import Kind
 from seenrules.logs import Log
 from seenrules.rulelists import RuleList
@@ -43,9 +43,7 @@ class QuestionCase(CheckedCase):
             for case in NO_CASES:
                 self.assert_raises_holding(InvalidCase, case, call, log, case, *more)
         for log in (FULL, FULL.replaced(0, "no")):
-            with self.assertRaises(TooMany) as caught:
-                call(log, ("a", "c"), *more)
-            self.assertEqual(caught.exception.count, 18)
+            self.assert_too_many(18, call, log, ("a", "c"), *more)
 
     def check_does_not_fit(self, call):
         for log in (SQUARE, SQUARE + SQUARE.entries(), FULL.replaced(3, "no").without(0)):
