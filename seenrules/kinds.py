@@ -11,6 +11,7 @@ from seenrules.errors import (
     InvalidText,
     NoField,
 )
+from seenrules.known import Known
 from seenrules.values import are_different, are_words, is_integer, is_list, is_number, is_word, parse_number
 
 OPERATORS = {"word": ("is", "not"), "number": ("most", "least")}
@@ -37,6 +38,21 @@ def are_fields(value):
 def are_answers(value):
     """Tell whether any value is a list of answers for a kind."""
     return are_words(value, LEAST_ANSWERS, MOST_ANSWERS) and are_different(value)
+
+
+def checked_fields(value):
+    """Return the tuple of the fields in any value, or raise an exception if it is no list of them."""
+    if not are_fields(value):
+        raise InvalidFields(value)
+    # A tuple, because a kind never changes.
+    return tuple(value)
+
+
+def checked_answers(value):
+    """Return the tuple of the answers in any value, or raise an exception if it is no list of them."""
+    if not are_answers(value):
+        raise InvalidAnswers(value)
+    return tuple(value)
 
 
 def is_width(value):
@@ -66,15 +82,10 @@ class Kind:
     """What a case consists of, which answers there are, and the greatest number of tests of a rule."""
 
     def __init__(self, fields, answers, *, width=1):
-        if not are_fields(fields):
-            raise InvalidFields(fields)
-        if not are_answers(answers):
-            raise InvalidAnswers(answers)
+        self.own_fields = fields.rows if isinstance(fields, Known) else checked_fields(fields)
+        self.own_answers = answers.rows if isinstance(answers, Known) else checked_answers(answers)
         if not is_width(width):
             raise InvalidInteger(width)
-        # Tuples, because a kind never changes.
-        self.own_fields = tuple(fields)
-        self.own_answers = tuple(answers)
         self.own_width = width
 
     def fields(self):
@@ -103,15 +114,15 @@ class Kind:
 
     def with_width(self, width):
         """Return the kind with the same fields and answers and this width."""
-        return Kind(self.own_fields, self.own_answers, width=width)
+        return Kind(Known(self.own_fields), Known(self.own_answers), width=width)
 
     def projected(self, names):
         """Return the kind that has only the named fields, in the order of this kind."""
         own_names = self.names()
         if not is_list(names) or not all([name in own_names for name in names]) or not are_different(names):
             raise InvalidNames(names)
-        fields = [field for field in self.own_fields if field[0] in names]
-        return Kind(fields, self.own_answers, width=self.own_width)
+        fields = tuple([field for field in self.own_fields if field[0] in names])
+        return Kind(Known(fields), Known(self.own_answers), width=self.own_width)
 
     def __eq__(self, other):
         return (
@@ -141,7 +152,10 @@ class Kind:
         """Tell whether any value is a tuple with one value for each field, in order."""
         if not isinstance(value, tuple) or len(value) != len(self.own_fields):
             return False
-        return all([is_of_sort(item, field[1]) for field, item in zip(self.own_fields, value)])
+        for field, item in zip(self.own_fields, value):
+            if not is_of_sort(item, field[1]):
+                return False
+        return True
 
     def is_test(self, value):
         """Tell whether any value is a tuple of a field's name, an operator for it, and a value for it."""

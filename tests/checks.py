@@ -1,9 +1,28 @@
 """Checks that several test files need."""
 
+import sys
 import unittest
 
 from samples_of_texts import with_one_character_otherwise
 from seenrules.errors import InvalidText, TooMany
+
+
+def lines_run(call, *arguments):
+    """Return how many lines of the package a call runs, those of loops and comprehensions each time."""
+    count = 0
+
+    def trace(frame, event, argument):
+        nonlocal count
+        count += event == "line"
+        return trace
+
+    before = sys.gettrace()
+    sys.settrace(trace)
+    try:
+        call(*arguments)
+    finally:
+        sys.settrace(before)
+    return count
 
 
 class CheckedCase(unittest.TestCase):

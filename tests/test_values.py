@@ -1,8 +1,7 @@
 import random
-import sys
 import unittest
 
-from checks import CheckedCase
+from checks import CheckedCase, lines_run
 from samples_of_values import NEVER_VALID
 from seenrules.errors import InvalidWords, SeenError
 from seenrules.kinds import Kind
@@ -11,24 +10,6 @@ from seenrules.values import first_other, is_integer, is_number, is_word, parse_
 LETTERS = "abcdefghijklmnopqrstuvwxyz"
 # All words of one and of two letters, in their order.
 SHORT_WORDS = [*LETTERS, *[first + last for first in LETTERS for last in LETTERS]]
-
-
-def lines_run(call, *arguments):
-    """Return how many lines of the package a call runs, those of loops and comprehensions each time."""
-    count = 0
-
-    def trace(frame, event, argument):
-        nonlocal count
-        count += event == "line"
-        return trace
-
-    before = sys.gettrace()
-    sys.settrace(trace)
-    try:
-        call(*arguments)
-    finally:
-        sys.settrace(before)
-    return count
 
 
 class IsIntegerTest(CheckedCase):
