@@ -6,9 +6,9 @@ groups stands for all cases.
 """
 
 from seenrules.errors import NoRule, OtherKind, TooMany
-from seenrules.meeting import first_unmet
-from seenrules.rulelists import RuleList, check_list
-from seenrules.values import LARGEST_NUMBER, first_other, is_integer
+from seenrules.meeting import first_unmet, values_by_name
+from seenrules.rulelists import RuleList, check_list, decider
+from seenrules.values import LARGEST_NUMBER, choices, first_other, is_integer, product
 
 MOST_CASES = 2000
 
@@ -41,15 +41,10 @@ def value_of_each_group(field, tests):
 def cases_of_groups(kind, tests):
     """Return a case for each choice of groups into which tests divide the values of the fields."""
     columns = [value_of_each_group(field, tests) for field in kind.fields()]
-    size = 1
-    for values in columns:
-        size = size * len(values)
+    size = product([len(values) for values in columns])
     if size > MOST_CASES:
         raise TooMany(size)
-    cases = [()]
-    for values in columns:
-        cases = [(*case, value) for case in cases for value in values]
-    return cases
+    return choices(columns)
 
 
 def alike(one, other):
@@ -58,23 +53,25 @@ def alike(one, other):
     check_list(other)
     if one.kind != other.kind:
         raise OtherKind(other)
+    rules = one.rules()
+    other_rules = other.rules()
     for case in cases_of_groups(one.kind, [*tests_of(one), *tests_of(other)]):
-        if one(case) != other(case):
+        values = values_by_name(one.kind, case)
+        if rules[decider(rules, values)][1] != other_rules[decider(other_rules, values)][1]:
             return ("unlike", case)
     return ("alike",)
 
 
-def met_rules(rule_list, case):
-    """Return the tuple of the indexes of the rules whose tests a case meets."""
-    kind = rule_list.kind
-    rules = list(enumerate(rule_list.rules()))
-    return tuple([index for index, rule in rules if first_unmet(kind, case, rule[0]) is None])
+def met_rules(rules, values):
+    """Return the tuple of the indexes of the rules whose tests a case with some values meets."""
+    return tuple([index for index, rule in enumerate(rules) if first_unmet(values, rule[0]) is None])
 
 
 def patterns(rule_list):
     """Return the list of the different tuples of indexes of rules that some case meets together."""
+    rules = rule_list.rules()
     cases = cases_of_groups(rule_list.kind, tests_of(rule_list))
-    return sorted(set([met_rules(rule_list, case) for case in cases]))
+    return sorted(set([met_rules(rules, values_by_name(rule_list.kind, case)) for case in cases]))
 
 
 def dead_rules(rule_list):

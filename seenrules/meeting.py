@@ -16,12 +16,16 @@ def holds(value, operator, limit):
     return value <= limit if operator == "most" else value >= limit
 
 
-def first_unmet(kind, case, tests):
-    """Return the first of some tests that a case does not meet, or None if it meets all."""
-    names = kind.names()
+def values_by_name(kind, case):
+    """Return a dict from the name of each field to the value that a case has in it."""
+    return dict(zip(kind.names(), case))
+
+
+def first_unmet(values, tests):
+    """Return the first of some tests that the values of a case do not meet, or None if they meet all."""
     for test in tests:
         name, operator, limit = test
-        if not holds(case[names.index(name)], operator, limit):
+        if not holds(values[name], operator, limit):
             return test
     return None
 
@@ -32,7 +36,7 @@ def meets(kind, case, tests):
     check_case(kind, case)
     if not is_list(tests) or len(tests) > MOST_TESTS or not all([kind.is_test(test) for test in tests]):
         raise InvalidTests(tests)
-    return first_unmet(kind, case, tests) is None
+    return first_unmet(values_by_name(kind, case), tests) is None
 
 
 def strongest(kind, case):

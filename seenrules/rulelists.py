@@ -2,7 +2,8 @@
 
 from seenrules.errors import InvalidList, InvalidRules, InvalidText, NoRule
 from seenrules.kinds import check_case, check_kind
-from seenrules.meeting import first_unmet
+from seenrules.known import Known
+from seenrules.meeting import first_unmet, values_by_name
 from seenrules.values import is_integer, is_list
 from seenrules.writing import read_rule, rule_text
 
@@ -26,16 +27,40 @@ def are_rules(kind, value):
     return all([is_rule(kind, item) for item in value]) and len(value[-1][0]) == 0
 
 
+def kept_rules(rules):
+    """Return rules as a rule list keeps them: as tuples, because it never changes."""
+    return tuple([(tuple(tests), answer) for tests, answer in rules])
+
+
+def checked_rules(kind, value):
+    """Return the rules of a rule list as it keeps them, or raise an exception if any value is no list of them."""
+    if not are_rules(kind, value):
+        raise InvalidRules(value)
+    return kept_rules(value)
+
+
+def read_rules(kind, lines):
+    """Return the tuple of the rules of a rule list that some lines show, or None."""
+    rules = [read_rule(kind, line) for line in lines]
+    return kept_rules(rules) if are_rules(kind, rules) else None
+
+
+def decider(rules, values):
+    """Return the index of the rule that decides a case with some values, one for the name of each field."""
+    index = 0
+    # This ends, as each case meets the last rule.
+    while first_unmet(values, rules[index][0]) is not None:
+        index += 1
+    return index
+
+
 class RuleList:
     """Rules in an order, the last one without tests."""
 
     def __init__(self, kind, rules):
         check_kind(kind)
-        if not are_rules(kind, rules):
-            raise InvalidRules(rules)
         self.own_kind = kind
-        # Tuples, because a rule list never changes.
-        self.own_rules = tuple([(tuple(tests), answer) for tests, answer in rules])
+        self.own_rules = rules.rows if isinstance(rules, Known) else checked_rules(kind, rules)
 
     @property
     def kind(self):
@@ -69,17 +94,14 @@ class RuleList:
     def decided_by(self, case):
         """Return the index of the rule that decides a case."""
         check_case(self.own_kind, case)
-        index = 0
-        # This ends, as each case meets the last rule.
-        while first_unmet(self.own_kind, case, self.own_rules[index][0]) is not None:
-            index += 1
-        return index
+        return decider(self.own_rules, values_by_name(self.own_kind, case))
 
     def steps(self, case):
         """Yield for each rule up to the deciding one its index and its first test that a case does not meet."""
         check_case(self.own_kind, case)
+        values = values_by_name(self.own_kind, case)
         for index, rule in enumerate(self.own_rules):
-            unmet = first_unmet(self.own_kind, case, rule[0])
+            unmet = first_unmet(values, rule[0])
             yield (index, unmet)
             if unmet is None:
                 return
@@ -91,11 +113,10 @@ class RuleList:
     def parse(cls, kind, text):
         """Return the rule list of a kind with a text as str gives it."""
         check_kind(kind)
-        lines = text.split("\n") if isinstance(text, str) else []
-        rules = [read_rule(kind, line) for line in lines]
-        if not are_rules(kind, rules):
+        rules = read_rules(kind, text.split("\n")) if isinstance(text, str) else None
+        if rules is None:
             raise InvalidText(text)
-        return cls(kind, rules)
+        return cls(kind, Known(rules))
 
 
 def check_list(value):

@@ -1,30 +1,49 @@
 """Strikes of entries of a log, and the rule list that they make."""
 
 from seenrules.errors import OtherKind
+from seenrules.known import Known
 from seenrules.logs import check_log
-from seenrules.rulelists import RuleList, check_list
-from seenrules.tables import Table, indexes_of
+from seenrules.meeting import first_unmet, values_by_name
+from seenrules.rulelists import RuleList, check_list, decider
+from seenrules.tables import Table, indexes_of, struck_in
 
 
 def strikes(log):
     """Yield tuples of a condition, an answer, and the indexes of the entries that are struck by it."""
     check_log(log)
     table = Table(log)
-    for tests, answer, struck in table.strikes_in(table.everything):
-        yield (list(tests), answer, indexes_of(struck))
+    values = [values_by_name(log.kind, case) for case, answer in log.entries()]
+    for met, here in struck_in(table.sets, table.rivals, table.entered)[1]:
+        tests, answer = table.rule_of(met, here, table.words)
+        indexes = indexes_of(here)
+        while indexes:
+            # A strike has tests of a case that it strikes: where this one has another number, they are narrower.
+            own = [(name, operator, values[indexes[0]][name]) for name, operator, value in tests]
+            found = [index for index in indexes if first_unmet(values[index], own) is None]
+            indexes = [index for index in indexes if index not in found]
+            yield (own, answer, found)
+
+
+def rule_list_of(kind, rules):
+    """Return the rule list of some rules, of which the last one decides what the other ones leave."""
+    last_answer = rules[-1][1] if rules else kind.answers()[0]
+    return RuleList(kind, Known((*rules[:-1], ((), last_answer))))
 
 
 def rules_for(log):
     """Return a rule list that explains a log, or None if there is none."""
     check_log(log)
-    found = list(strikes(log))
-    if sum([len(indexes) for tests, answer, indexes in found]) < len(log):
-        return None
-    if len(found) == 0:
-        return RuleList(log.kind, [([], log.kind.answers()[0])])
-    # All entries that are left for the last strike have its answer, so it needs no tests.
-    rules = [(tests, answer) for tests, answer, indexes in found]
-    return RuleList(log.kind, [*rules[:-1], ([], rules[-1][1])])
+    table = Table(log)
+    left, struck = struck_in(table.sets, table.rivals, table.entered)
+    return None if left else rule_list_of(log.kind, table.rules_of(struck, table.words))
+
+
+def wrong_at(rules, kind, entries):
+    """Return the index of the first of some entries to whose case rules give another answer, or None."""
+    for index, entry in enumerate(entries):
+        if rules[decider(rules, values_by_name(kind, entry[0]))][1] != entry[1]:
+            return index
+    return None
 
 
 def first_wrong(rules, log):
@@ -33,13 +52,9 @@ def first_wrong(rules, log):
     check_log(log)
     if rules.kind != log.kind:
         raise OtherKind(log)
-    for index, entry in enumerate(log.entries()):
-        case, answer = entry
-        if rules(case) != answer:
-            return index
-    return None
+    return wrong_at(rules.rules(), log.kind, log.entries())
 
 
-def is_explained_by(log, value):
-    """Tell whether any value is a rule list of the kind of a log that explains the log."""
-    return isinstance(value, RuleList) and value.kind == log.kind and first_wrong(value, log) is None
+def is_explained_by(kind, entries, value):
+    """Tell whether any value is a rule list of a kind that gives some entries their answers."""
+    return isinstance(value, RuleList) and value.kind == kind and wrong_at(value.rules(), kind, entries) is None

@@ -1,10 +1,11 @@
-"""Which entries of a log meet which conditions, reckoned once for all sets of its entries.
+"""Which entries of a log meet which conditions, and which strikes are possible.
 
-A set of entries is an integer here: the entry with an index is in it if the
-bit of the value 1 << index is set.
+A set of entries is an integer here: the entry with an index is in it if the bit of
+the value 1 << index is set. Cases that are asked about stand behind the entries and
+are in such sets, too.
 """
 
-from seenrules.meeting import conditions, first_unmet, strongest
+from seenrules.kinds import OPERATORS
 
 
 def set_of(indexes):
@@ -17,63 +18,157 @@ def indexes_of(chosen):
     return [index for index in range(chosen.bit_length()) if chosen >> index & 1]
 
 
-def sets_of_tests(log):
-    """Return a dict from each strongest test of a case of a log to the set of the entries that meet it."""
-    kind = log.kind
-    cases = [case for case, answer in log.entries()]
-    met_by = {}
-    for case in log.cases():
-        for test in strongest(kind, case):
-            if test not in met_by:
-                met = [index for index, other in enumerate(cases) if first_unmet(kind, other, [test]) is None]
-                met_by[test] = set_of(met)
-    return met_by
+def stretch_of(first, last):
+    """Return the set of the entries from index first to last - 1."""
+    return (1 << last) - (1 << first)
 
 
-def rows_of_entry(log, index, met_by):
-    """Return what a strike needs, for each condition of the strongest tests of an entry's case.
+def sets_of_items(items):
+    """Return a dict from each of some items to the set of the places where it stands."""
+    found = {}
+    place = 1
+    for item in items:
+        found[item] = found.get(item, 0) | place
+        place = place << 1
+    return found
 
-    A row has the set of this one entry, the set of the entries that meet the condition,
-    the set of those among them with another answer, the condition, and the entry's answer.
+
+def word_column(words):
+    """Return a dict from each of some words to the set that meets its strongest test, in a tuple."""
+    found = sets_of_items(words)
+    return {word: (found[word],) for word in found}
+
+
+def number_column(numbers):
+    """Return a dict from each of some numbers to the two sets that meet its strongest tests, in a tuple."""
+    found = sets_of_items(numbers)
+    column = {}
+    most = 0
+    least = (1 << len(numbers)) - 1
+    for number in sorted(found):
+        most = most | found[number]
+        column[number] = (most, least)
+        least = least ^ found[number]
+    return column
+
+
+def columns_of(kind, cases):
+    """Return for each field of a kind what word_column or number_column returns for the values of the cases."""
+    columns = []
+    for place, field in enumerate(kind.fields()):
+        values = [case[place] for case in cases]
+        columns.append(word_column(values) if field[1] == "word" else number_column(values))
+    return columns
+
+
+def row_of(columns, case):
+    """Return the list of the sets that meet the strongest tests of a case."""
+    return [met for column, value in zip(columns, case) for met in column[value]]
+
+
+def singles_of(columns, entries):
+    """Return the list of the sets that meet the strongest tests of the cases of a set of entries."""
+    parts = [tests for column in columns for tests in list(column.values())]
+    # All tests on a field are met together by those alone that have this very value.
+    return [met for tests in parts if tests[0] & tests[-1] & entries for met in tests]
+
+
+def tests_by_set(kind, columns):
+    """Return a dict from each set that meets a strongest test to such a test."""
+    return {
+        met: (field[0], operator, value)
+        for field, column in zip(kind.fields(), columns)
+        for value, parts in column.items()
+        for met, operator in zip(parts, OPERATORS[field[1]])
+    }
+
+
+def pairs_of(rows):
+    """Return a dict from each set that meets two sets of a row to these two."""
+    return {one & other: (one, other) for row in rows for at, one in enumerate(row) for other in row[at + 1 :]}
+
+
+def rivals_of(words):
+    """Return a list that has, behind a zero, for each entry the set of those with other answers than its own."""
+    everything = (1 << len(words)) - 1
+    found = sets_of_items(words)
+    # With the zero the last entry of a set has its place at the bit length of the set.
+    return [0, *[everything ^ found[word] for word in words]]
+
+
+def struck_in(sets, rivals, chosen):
+    """Strike entries of a set until no strike is possible; return the set of those left, and the list of the strikes.
+
+    A strike is a tuple of the set that meets its condition and the set of the entries that it strikes.
     """
-    kind = log.kind
-    case, answer = log[index]
-    others = set_of([at for at, entry in enumerate(log.entries()) if entry[1] != answer])
-    rows = []
-    known = {}
-    for tests in conditions(kind, case):
-        met = (1 << len(log)) - 1
-        for test in tests:
-            met = met & met_by[test]
-        # A longer condition that the same entries meet is of no use.
-        if met not in known:
-            known[met] = True
-            rows.append((1 << index, met, met & others, tuple(tests), answer))
-    return rows
+    left = chosen
+    struck = []
+    waiting = sets
+    before = 0
+    while left and left != before:
+        before = left
+        tried = waiting
+        waiting = []
+        for met in tried:
+            here = left & met
+            if here and here & rivals[here.bit_length()]:
+                waiting.append(met)
+            elif here:
+                struck.append((met, here))
+                left = left ^ here
+    return (left, struck)
+
+
+def can_strike(sets, rivals, chosen):
+    """Tell whether a strike of entries of a set is possible."""
+    for met in sets:
+        here = chosen & met
+        if here and not here & rivals[here.bit_length()]:
+            return True
+    return False
 
 
 class Table:
-    """The conditions of the cases of a log, and the strikes that are possible in sets of its entries."""
+    """The entries of a log and further cases, and the conditions of the strongest tests of the entries' cases."""
 
-    def __init__(self, log):
-        met_by = sets_of_tests(log)
-        self.everything = (1 << len(log)) - 1
-        self.rows = [row for index in range(len(log)) for row in rows_of_entry(log, index, met_by)]
+    def __init__(self, log, asked=()):
+        entries = log.entries()
+        cases = [case for case, answer in entries]
+        self.own_log = log
+        self.words = [answer for case, answer in entries]
+        self.rivals = rivals_of(self.words)
+        self.entered = (1 << len(entries)) - 1
+        self.everything = (1 << len(entries) + len(asked)) - 1
+        self.columns = columns_of(log.kind, [*cases, *asked])
+        self.named = {}
+        # The rows are needed for conditions of two tests alone.
+        rows = [row_of(self.columns, case) for case in {case: True for case in cases}] if log.kind.width > 1 else []
+        self.made_of = self.conditions_of(singles_of(self.columns, self.entered), rows)
+        # Backward, so that conditions of fewer tests stand in front.
+        self.sets = list(self.made_of)[::-1]
 
-    def strikes_in(self, chosen):
-        """Yield tuples of a condition, an answer and the set of struck entries, until no strike is possible."""
-        left = chosen
-        before = None
-        while left != before:
-            before = left
-            for entry, met, rivals, tests, answer in self.rows:
-                if left & entry and not left & rivals:
-                    yield (tests, answer, left & met)
-                    left = left & ~met
+    def conditions_of(self, singles, rows):
+        """Return a dict from each set that meets a condition to the sets that meet its tests, as few as are enough."""
+        made = pairs_of(rows) if self.own_log.kind.width > 1 else {}
+        if self.own_log.kind.width > 0:
+            made.update({met: (met,) for met in singles})
+        made[self.everything] = ()
+        return made
 
     def left_in(self, chosen):
         """Return the set of the entries that all strikes leave: the greatest core in a set, or nothing."""
-        left = chosen
-        for tests, answer, struck in self.strikes_in(chosen):
-            left = left & ~struck
-        return left
+        return struck_in(self.sets, self.rivals, chosen)[0]
+
+    def tests_of(self, parts):
+        """Return the tuple of the tests that some sets meet."""
+        if parts and not self.named:
+            self.named = tests_by_set(self.own_log.kind, self.columns)
+        return tuple([self.named[met] for met in parts])
+
+    def rule_of(self, met, here, words):
+        """Return the rule that a strike makes; the words are the answers of all entries."""
+        return (self.tests_of(self.made_of[met]), words[here.bit_length() - 1])
+
+    def rules_of(self, struck, words):
+        """Return the list of the rules that strikes make."""
+        return [self.rule_of(met, here, words) for met, here in struck]

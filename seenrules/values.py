@@ -50,6 +50,22 @@ def are_different(words):
     return len(set(words)) == len(words)
 
 
+def product(counts):
+    """Return the product of some numbers, 1 of none."""
+    result = 1
+    for count in counts:
+        result = result * count
+    return result
+
+
+def choices(columns):
+    """Return all tuples with one item of each column, in order; the items of the last column change fastest."""
+    rows = [()]
+    for items in columns:
+        rows = [(*row, item) for row in rows for item in items]
+    return rows
+
+
 def parse_number(text):
     """Return the number that a string represents, or None for any other value."""
     if not isinstance(text, str):

@@ -1,9 +1,11 @@
 """Which answers are possible for a case, if the rules were never changed."""
 
-from seenrules.cores import check_explained, is_core, small_core
+from seenrules.cores import check_left, is_core_in
 from seenrules.kinds import check_case
 from seenrules.logs import check_log, check_room
-from seenrules.stripping import is_explained_by, rules_for
+from seenrules.questions import Question
+from seenrules.stripping import is_explained_by
+from seenrules.tables import Table, rivals_of
 
 
 def check_question(log, case):
@@ -21,31 +23,23 @@ def word_for(possible_answers):
 def verdict(log, case):
     """Return "sure" or "open", lists that give the possible answers, and cores against the other ones."""
     check_question(log, case)
-    check_explained(log)
-    lists = {}
-    cores = {}
-    for answer in log.kind.answers():
-        longer = log + [(case, answer)]
-        rules = rules_for(longer)
-        if rules is None:
-            cores[answer] = small_core(longer)
-        else:
-            lists[answer] = rules
-    return (word_for(lists), lists, cores)
+    table = Table(log, [case])
+    question = Question(table, len(log), case)
+    left, struck = question.struck_beside(table.entered)
+    check_left(table.left_in(left))
+    ways = question.ways(left)
+    impossible = [answer for answer in log.kind.answers() if answer not in ways]
+    return (word_for(ways), question.lists(struck, left, ways), question.cores(left, impossible))
 
 
 def possible(log, case):
     """Return the list of the possible answers for a case."""
     check_question(log, case)
-    check_explained(log)
-    return [answer for answer in log.kind.answers() if rules_for(log + [(case, answer)]) is not None]
-
-
-def is_shown(log, answer, lists, cores):
-    """Tell whether a list shows that the last answer of a log is possible, or a core that it is not."""
-    if answer in lists:
-        return is_explained_by(log, lists[answer])
-    return answer in cores and is_core(log, cores[answer])
+    table = Table(log, [case])
+    question = Question(table, len(log), case)
+    left = question.struck_beside(table.entered)[0]
+    check_left(table.left_in(left))
+    return list(question.ways(left))
 
 
 def is_verdict(log, case, value):
@@ -60,4 +54,12 @@ def is_verdict(log, case, value):
     # With as many keys as answers, and each answer among them, no key is another one or in both dicts.
     if len(lists) + len(cores) != len(answers) or word != word_for(lists):
         return False
-    return all([is_shown(log + [(case, answer)], answer, lists, cores) for answer in answers])
+    table = Table(log.inserted(len(log), case, answers[0]))
+    for answer in answers:
+        if answer in lists:
+            shown = is_explained_by(log.kind, [*log.entries(), (case, answer)], lists[answer])
+        else:
+            shown = answer in cores and is_core_in(table, rivals_of([*table.words[:-1], answer]), cores[answer])
+        if not shown:
+            return False
+    return True

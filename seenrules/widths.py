@@ -3,7 +3,8 @@
 from seenrules.cores import check_explained, core_of
 from seenrules.kinds import MOST_WIDTH
 from seenrules.logs import check_log
-from seenrules.stripping import rules_for
+from seenrules.stripping import rule_list_of
+from seenrules.tables import Table, indexes_of, struck_in
 
 
 def least_width(log):
@@ -12,10 +13,11 @@ def least_width(log):
     core = None
     for width in range(MOST_WIDTH + 1):
         other = log.with_width(width)
-        rules = rules_for(other)
-        if rules is not None:
-            return ("width", width, rules, core)
-        core = core_of(other)
+        table = Table(other)
+        left, struck = struck_in(table.sets, table.rivals, table.entered)
+        if left == 0:
+            return ("width", width, rule_list_of(other.kind, table.rules_of(struck, table.words)), core)
+        core = indexes_of(left)
     return ("none", core)
 
 

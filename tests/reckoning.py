@@ -21,9 +21,9 @@ FIELDS = [
 ]
 
 
-def kinds():
+def kinds(answers=("no", "yes", "if")):
     """Return kinds with zero to four fields and all widths."""
-    return [Kind(fields, ["no", "yes", "if"], width=width) for fields in FIELDS for width in (0, 1, 2)]
+    return [Kind(fields, answers, width=width) for fields in FIELDS for width in (0, 1, 2)]
 
 
 def is_met(kind, case, test):

@@ -10,6 +10,9 @@ PAIR = Kind([("x", "word"), ("y", "word")], ["no", "yes"], width=1)
 CORNER = Log(PAIR, [(("a", "c"), "yes"), (("a", "d"), "no"), (("b", "c"), "no")])
 SQUARE = CORNER + [(("b", "d"), "yes"), (("e", "e"), "no")]
 BARE = Kind([], ["a", "b"], width=0)
+TWO = ("no", "yes")
+THREE = ("no", "yes", "if")
+FIVE = ("no", "yes", "maybe", "never", "other")
 # Values that are no logs; the lists of entries among them would do for one.
 NO_LOGS = [0, 1, "a", [], (), PAIR, CORNER.entries(), tuple(CORNER.entries()), str(CORNER), [CORNER], (CORNER,), {"log": CORNER}]
 
@@ -21,11 +24,11 @@ def few_values(draw, kind, entries):
     return [(tuple(draw.choice(pair) for pair in pairs), answer) for case, answer in entries]
 
 
-def drawn_logs(seed, counts):
+def drawn_logs(seed, counts, answers=THREE):
     """Return logs of all kinds with these numbers of entries: some drawn at random, some of a rule list."""
     draw = random.Random(seed)
     logs = []
-    for kind in kinds():
+    for kind in kinds(answers):
         for count in counts:
             entries = drawn_entries(draw, kind, count)
             logs += [Log(kind, entries), Log(kind, few_values(draw, kind, entries))]
@@ -33,10 +36,10 @@ def drawn_logs(seed, counts):
     return logs
 
 
-def logs_of_lists(seed, counts):
+def logs_of_lists(seed, counts, answers=THREE):
     """Return logs of all kinds with the answers of a rule list, so that a list explains them."""
     draw = random.Random(seed)
-    return [Log(kind, entries_of_list(draw, kind, count)) for kind in kinds() for count in counts]
+    return [Log(kind, entries_of_list(draw, kind, count)) for kind in kinds(answers) for count in counts]
 
 
 def logs_with_contradictions(seed, counts):

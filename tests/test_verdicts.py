@@ -2,9 +2,9 @@ import itertools
 import random
 import unittest
 
-from checks import CheckedCase
+from checks import CheckedCase, lines_run
 from reckoning import are_core, cases_beside, drawn_case, explains, greatest_core
-from samples_of_logs import BARE, CORNER, NO_LOGS, PAIR, SQUARE, drawn_logs, logs_of_lists
+from samples_of_logs import BARE, CORNER, FIVE, NO_LOGS, PAIR, SQUARE, TWO, drawn_logs, logs_of_lists
 from samples_of_values import NEVER_VALID
 from seenrules.cores import core_of, small_core
 from seenrules.errors import DoesNotFit, InvalidCase, InvalidLog
@@ -23,11 +23,11 @@ ROWS = [("a", 1, "yes"), ("a", 9, "yes"), ("b", 1, "no"), ("b", 5, "yes"), ("c",
 MIXED_LOG = Log(MIXED, [((x, n), answer) for x, n, answer in ROWS])
 
 
-def logs_with_cases(seed):
+def logs_with_cases(seed, answers=("no", "yes", "if")):
     """Return pairs of a log with at most 16 entries and a case, some of them of the log."""
     draw = random.Random(seed)
     pairs = []
-    for log in drawn_logs(seed, (0, 1, 3, 6)) + logs_of_lists(seed, (2, 5, 9, 16)):
+    for log in drawn_logs(seed, (0, 1, 3, 6), answers) + logs_of_lists(seed, (2, 5, 9, 16), answers):
         cases = log.cases() + [drawn_case(draw, log.kind)]
         pairs += [(log, drawn_case(draw, log.kind)), (log, draw.choice(cases))]
     return pairs
@@ -94,6 +94,36 @@ class VerdictTest(QuestionCase):
                 counts.append(len(self.check(log, case)))
         self.assertTrue({1, 3} <= set(counts))
 
+    def test_two_and_five_answers(self):
+        for answers in (TWO, FIVE):
+            counts, seen, missing = set(), set(), set()
+            for log, case in logs_with_cases(74, answers):
+                if core_of(log):
+                    self.assertRaises(DoesNotFit, verdict, log, case)
+                    self.assertRaises(DoesNotFit, possible, log, case)
+                else:
+                    counts.add(len(self.check(log, case)))
+                    seen.add(case in log)
+                    missing.add(len(set(answers) - {answer for other, answer in log.entries()}))
+            self.assertTrue({1, len(answers)} <= counts)
+            self.assertEqual(seen, {True, False})
+            self.assertTrue(set(range(len(answers))) <= missing)
+
+    def test_of_the_issue(self):
+        kind = Kind(MIXED.fields(), FIVE)
+        rows = [("a", 1, "no"), ("a", 9, "no"), ("b", 1, "yes"), ("b", 5, "no"), ("c", 5, "no"), ("c", 9, "yes")]
+        log = Log(kind, [((x, n), answer) for x, n, answer in rows])
+        self.assertEqual(self.check(log, ("a", 4)), ["no"])
+        for case in cases_beside(kind, log.cases(), []):
+            self.check(log, case)
+
+    def test_several_but_not_all_answers(self):
+        kind = Kind(PAIR.fields(), FIVE)
+        rows = [("a", "p", "no"), ("r", "p", "maybe"), ("r", "b", "other"), ("s", "b", "other"), ("s", "p", "maybe")]
+        log = Log(kind, [((x, y), answer) for x, y, answer in rows])
+        counts = [len(self.check(log, case)) for case in cases_beside(kind, log.cases(), [])]
+        self.assertEqual(set(counts), {1, 2, 5})
+
     def test_two_of_three_answers(self):
         log = Log(THREE, [(("a", "p"), "no"), (("r", "p"), "maybe"), (("r", "b"), "yes")])
         self.assertEqual(self.check(log, ("a", "b")), ["no", "yes"])
@@ -140,6 +170,16 @@ class VerdictTest(QuestionCase):
         for call in (verdict, possible):
             self.check_wrong_arguments(call)
             self.check_does_not_fit(call)
+
+
+class WorkTest(CheckedCase):
+    def test_all_answers_at_once(self):
+        rows = [("a", 1, "no"), ("a", 9, "no"), ("b", 1, "yes"), ("b", 5, "no"), ("c", 5, "no"), ("c", 9, "yes")]
+        entries = [((x, n), answer) for x, n, answer in rows]
+        two, five = [Log(Kind(MIXED.fields(), answers), entries) for answers in (TWO, FIVE)]
+        self.assertLess(lines_run(possible, five, ("a", 4)), 3 * lines_run(core_of, five))
+        self.assertLess(lines_run(possible, five, ("a", 4)), 1.2 * lines_run(possible, two, ("a", 4)))
+        self.assertLess(lines_run(verdict, five, ("a", 4)), 2 * lines_run(verdict, two, ("a", 4)))
 
 
 class IsVerdictTest(QuestionCase):
