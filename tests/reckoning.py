@@ -1,5 +1,6 @@
 """Cases, tests and rules reckoned by other ways than the package's, and drawn kinds, cases and rules."""
 
+import functools
 import itertools
 import operator
 
@@ -109,11 +110,18 @@ def drawn_entries(draw, kind, count):
 
 def met_sets(kind, cases):
     """Return all sets of indexes of cases that are those that meet some condition of the kind's width."""
+    return known_met_sets(str(kind), tuple(cases))
+
+
+@functools.lru_cache(maxsize=1000)
+def known_met_sets(text, cases):
+    """Return the sets for the kind with a text; they are asked for again and again with other answers."""
+    kind = Kind.parse(text)
     sets = {frozenset(range(len(cases)))}
     tested = {frozenset(at for at, case in enumerate(cases) if is_met(kind, case, test)) for test in tests_beside(kind, cases)}
     for count in range(kind.width):
         sets |= {one & other for one in sets for other in tested}
-    return sets
+    return frozenset(sets)
 
 
 def are_core(kind, entries, indexes):

@@ -54,3 +54,19 @@ def logs_with_contradictions(seed, counts):
             entries.insert(draw.randint(0, count - 1), (case, other))
             logs.append(Log(kind, entries))
     return logs
+
+
+def turns(kind, case, answers, count):
+    """Return a log of one case that gets some answers in turn."""
+    return Log(kind, [(case, answers[at % len(answers)]) for at in range(count)])
+
+
+def logs_of_changed_rules(seed, counts, answers=THREE):
+    """Return logs of all kinds whose rules change once or twice on the way."""
+    draw = random.Random(seed)
+    logs = []
+    for kind in kinds(answers):
+        for count in counts:
+            parts = [few_values(draw, kind, entries_of_list(draw, kind, part)) for part in (count // 2, count - count // 2)]
+            logs.append(Log(kind, parts[0] + parts[1]))
+    return logs
