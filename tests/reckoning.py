@@ -184,3 +184,19 @@ def entries_of_list(draw, kind, count):
     rules = drawn_rules(draw, kind, draw.choice((1, 2, 4, 8)))
     cases = [drawn_case(draw, kind) for index in range(count)]
     return [(case, rules[decider(kind, rules, case)][1]) for case in cases]
+
+
+def explained(log):
+    """Tell whether some list explains a log, by looking for a core."""
+    return not greatest_core(log.kind, log.entries())
+
+
+def is_entailed(kind, entries, case, answer):
+    """Tell whether each list that explains some entries gives a case an answer, by looking for cores."""
+    others = [other for other in kind.answers() if other != answer]
+    return all(greatest_core(kind, [*entries, (case, other)]) for other in others)
+
+
+def entails_by_cores(log, other):
+    """Tell whether a log entails all entries of another one."""
+    return all(is_entailed(log.kind, log.entries(), case, answer) for case, answer in other.entries())

@@ -3,7 +3,7 @@ import random
 import unittest
 
 from checks import CheckedCase
-from reckoning import are_core, cases_beside, drawn_case, greatest_core, kinds
+from reckoning import are_core, cases_beside, drawn_case, entails_by_cores, explained, is_entailed, kinds
 from samples_of_logs import BARE, CORNER, FIVE, NO_LOGS, PAIR, SQUARE, TWO, drawn_logs, logs_of_lists, logs_with_contradictions
 from samples_of_values import NEVER_VALID
 from seenrules.entailing import entails, same_lists, thinned
@@ -14,22 +14,6 @@ from seenrules.logs import Log
 NEVER_LOGS = [value for value in NEVER_VALID if not isinstance(value, Log)] + NO_LOGS
 OTHER_KINDS = [PAIR.with_width(2), PAIR.projected(["x"]), BARE, Kind(PAIR.fields(), ["yes", "no"]), Kind([("y", "word"), ("x", "word")], TWO)]
 FULL = Log(PAIR, [(("a", "c"), "yes")] * 17)
-
-
-def is_entailed(kind, entries, case, answer):
-    """Tell whether each list that explains some entries gives a case an answer, by looking for cores."""
-    others = [other for other in kind.answers() if other != answer]
-    return all(greatest_core(kind, [*entries, (case, other)]) for other in others)
-
-
-def entails_by_cores(log, other):
-    """Tell whether a log entails all entries of another one."""
-    return all(is_entailed(log.kind, log.entries(), case, answer) for case, answer in other.entries())
-
-
-def explained(log):
-    """Tell whether some list explains a log."""
-    return not greatest_core(log.kind, log.entries())
 
 
 class EntailingCase(CheckedCase):

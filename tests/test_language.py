@@ -2,6 +2,7 @@
 
 import ast
 import builtins
+import functools
 import pathlib
 import re
 import unittest
@@ -20,6 +21,18 @@ BUILTINS = (
     "ArithmeticError OverflowError RuntimeError NotImplementedError AttributeError StopIteration NotImplemented "
     "property classmethod staticmethod super"
 ).split()
+OWN_METHODS = (
+    "append clear copy count endswith extend find get index insert isalnum isalpha isdigit islower isspace isupper items "
+    "join keys ljust lower lstrip partition pop remove replace reverse rfind rjust rpartition rsplit rstrip setdefault "
+    "split splitlines startswith strip update upper values zfill bit_length removeprefix removesuffix isascii"
+).split()
+# Rule L23: these are iterated at once.
+AT_ONCE = ("range", "zip", "enumerate", "reversed", "items", "keys", "values")
+BARRED_NAMES = (
+    "register mro elements open input law version_info with_traceback add_note attrgetter breakpoint builtins compile "
+    "copyright credits delattr dir eval exec exit gc getattr globals hasattr help id importlib license locals methodcaller "
+    "os quit setattr super vars sys"
+).split()
 METHODS = "__init__ __eq__ __repr__ __str__ __len__ __enter__ __exit__ __call__ __iter__ __contains__ __getitem__ __add__"
 # Rule L7: these take a list where a class of the package has __eq__.
 TAKE_LISTS = ("any", "all", "min", "max", "sum", "sorted")
@@ -28,8 +41,9 @@ TAKE_GENERATORS = (*TAKE_LISTS, "list", "tuple", "dict", "enumerate", "zip")
 BARRED_NODES = (ast.Global, ast.AsyncFunctionDef, ast.Await, ast.Div)
 
 
+@functools.cache
 def trees():
-    """Return pairs of a file's name and its syntax tree."""
+    """Return pairs of a file's name and its syntax tree, the same trees each time."""
     return [(path.name, ast.parse(path.read_text("utf-8"))) for path in FILES if path.suffix == ".py"]
 
 
@@ -126,7 +140,6 @@ class SyntaxTest(unittest.TestCase):
                     attributes.add(node.attr)
         self.assertEqual(methods & attributes, set())
 
-
     def test_names_in_functions(self):
         for name, tree in trees():
             taken = [alias.name for node in tree.body if isinstance(node, ast.ImportFrom) for alias in node.names]
@@ -166,6 +179,129 @@ class SyntaxTest(unittest.TestCase):
                     methods = {row.name: row for row in node.body if isinstance(row, ast.FunctionDef)}
                     if "__getitem__" in methods:
                         self.assertIsInstance(methods["__iter__"].body[0], ast.Raise)
+
+def called_name(node):
+    """Return the name of what is called, of a function or of a method."""
+    return node.func.id if isinstance(node.func, ast.Name) else getattr(node.func, "attr", None)
+
+
+def nodes(kind):
+    """Return pairs of a file's name and a node of a kind, for all files."""
+    return [(name, node) for name, tree in trees() for node in ast.walk(tree) if isinstance(node, kind)]
+
+
+class CallsTest(unittest.TestCase):
+    def test_builtins(self):
+        for name, node in nodes(ast.Name):
+            if isinstance(node.ctx, ast.Load) and hasattr(builtins, node.id):
+                self.assertIn(node.id, BUILTINS, (name, node.lineno))
+
+    def test_methods(self):
+        own = {node.name for name, node in nodes(ast.FunctionDef)}
+        for name, node in nodes(ast.Call):
+            if isinstance(node.func, ast.Attribute):
+                self.assertIn(node.func.attr, {*OWN_METHODS, *own}, (name, node.lineno))
+
+    def test_iterated_at_once(self):
+        allowed = [node.iter for name, node in nodes((ast.For, ast.comprehension))]
+        for name, node in nodes(ast.Call):
+            if called_name(node) in TAKE_GENERATORS and not (called_name(node) in ("min", "max") and len(node.args) > 1):
+                allowed += node.args if called_name(node) == "zip" else node.args[:1]
+        # A dict and a list have these methods, own objects do not.
+        for name, node in nodes(ast.Call):
+            if called_name(node) in AT_ONCE and (isinstance(node.func, ast.Name) or not node.args):
+                self.assertTrue(node in allowed, (name, node.lineno))
+
+    def test_keywords_of_builtins(self):
+        for name, node in nodes(ast.Call):
+            if isinstance(node.func, ast.Name) and hasattr(builtins, node.func.id):
+                for keyword in node.keywords:
+                    self.assertIn(keyword.arg, ("key", "reverse", "default", "start", "strict"), (name, node.lineno))
+
+    def test_sets(self):
+        allowed = []
+        for name, node in nodes((ast.Call, ast.Compare, ast.Assign)):
+            if isinstance(node, ast.Call) and called_name(node) in ("sorted", "len"):
+                allowed += node.args
+            elif isinstance(node, ast.Compare):
+                allowed += node.comparators
+            elif isinstance(node, ast.Assign):
+                allowed.append(node.value)
+        for name, node in nodes((ast.Call, ast.Set, ast.SetComp)):
+            if not isinstance(node, ast.Call) or called_name(node) == "set":
+                self.assertTrue(node in allowed, (name, node.lineno))
+
+    def test_raised_on_the_spot(self):
+        errors = {node.name for name, node in nodes(ast.ClassDef) if name == "errors.py"} | {"TypeError"}
+        for name, node in nodes(ast.Raise):
+            self.assertIsInstance(node.exc, ast.Call, (name, node.lineno))
+            self.assertIn(node.exc.func.id, errors, (name, node.lineno))
+        self.assertEqual(nodes((ast.Try, ast.Assert)), [])
+
+
+class ShapesTest(unittest.TestCase):
+    def test_is(self):
+        for name, node in nodes(ast.Compare):
+            if isinstance(node.ops[0], (ast.Is, ast.IsNot)):
+                self.assertIsInstance(node.comparators[0], ast.Constant, (name, node.lineno))
+                self.assertIn(node.comparators[0].value, (None, True, False))
+
+    def test_defaults_and_decorators(self):
+        for name, node in nodes(ast.FunctionDef):
+            for default in [*node.args.defaults, *[item for item in node.args.kw_defaults if item]]:
+                plain = isinstance(default, ast.Constant) or isinstance(default, ast.Tuple) and not default.elts
+                self.assertTrue(plain, (name, node.name))
+            for decorator in node.decorator_list:
+                self.assertIn(decorator.id, ("property", "classmethod"), (name, node.name))
+
+    def test_names(self):
+        for name, node in nodes((ast.FunctionDef, ast.ClassDef, ast.arg, ast.Name)):
+            found = node.id if isinstance(node, ast.Name) else node.arg if isinstance(node, ast.arg) else node.name
+            self.assertNotIn(found, BARRED_NAMES, (name, node.lineno))
+
+    def test_special_methods(self):
+        for name, node in nodes(ast.ClassDef):
+            for row in node.body:
+                if isinstance(row, ast.FunctionDef) and row.name.startswith("__"):
+                    self.assertIn(row.name, METHODS.split(), (name, row.lineno))
+
+    def test_values_at_module_level(self):
+        for name, tree in trees():
+            functions = [node.name for node in tree.body if isinstance(node, ast.FunctionDef)]
+            for node in tree.body:
+                if isinstance(node, ast.Assign):
+                    for part in ast.walk(node.value):
+                        self.assertNotIsInstance(part, ast.Call, (name, node.lineno))
+                        if isinstance(part, ast.Name):
+                            self.assertIn(part.id, functions, (name, node.lineno))
+
+    def test_strings(self):
+        for name, node in nodes(ast.Constant):
+            if isinstance(node.value, str):
+                self.assertFalse(node.value.startswith("__"), (name, node.lineno))
+        for name, node in nodes(ast.JoinedStr):
+            for part in node.values:
+                if isinstance(part, ast.FormattedValue):
+                    inner = [item for item in ast.walk(part) if isinstance(item, ast.Constant) and isinstance(item.value, str)]
+                    self.assertEqual(inner, [], (name, node.lineno))
+
+    def test_no_module_level_list_is_passed_on(self):
+        for name, tree in trees():
+            held = [node.targets[0].id for node in tree.body if isinstance(node, ast.Assign) and isinstance(node.value, (ast.List, ast.Dict))]
+            read = [node.value for node in ast.walk(tree) if isinstance(node, ast.Subscript)]
+            read += [item for node in ast.walk(tree) if isinstance(node, ast.Compare) for item in node.comparators]
+            for node in ast.walk(tree):
+                if isinstance(node, ast.Name) and isinstance(node.ctx, ast.Load) and node.id in held:
+                    self.assertTrue(node in read, (name, node.lineno))
+
+    def test_imports_make_no_circle(self):
+        imported = {}
+        for name, tree in trees():
+            found = [node.module for node in ast.walk(tree) if isinstance(node, ast.ImportFrom)]
+            imported["seenrules." + name.removesuffix(".py")] = set(found)
+        while free := [name for name in imported if not imported[name]]:
+            imported = {name: imported[name] - set(free) for name in imported if name not in free}
+        self.assertEqual(imported, {})
 
 
 if __name__ == "__main__":
