@@ -79,7 +79,7 @@ def value_in(parts, part):
 def is_part(parts, value):
     """Tell whether any value is one of the parts of the classes for one field."""
     # True and False would equal 1 and 0.
-    return isinstance(value, tuple) and value in parts and not any([isinstance(item, bool) for item in value])
+    return value in parts and not any([isinstance(item, bool) for item in value])
 
 
 def case_in(log, value):

@@ -65,7 +65,8 @@ def spans_at(ends, backs, at, changes):
         first = min(ends[before], at)
         last = max(backs[behind], at)
         # A list explains the entries from one end up to the next, and from a start back to the next.
-        if last == first or (last <= ends[before + 1] if first == ends[before] else first >= backs[behind + 1]):
+        is_one = last <= ends[before + 1] if first == ends[before] else first >= backs[behind + 1]
+        if is_one:
             found.append((first, last))
         if first == at:
             # With more changes before it the case would be asked beside more entries, not fewer.
@@ -80,8 +81,8 @@ def timeline(log, case, *, changes=0):
     stretches = walk_of(table, changes + 1)
     check_fitting(stretches)
     # Both go on at the edge of the log for changes that are not needed.
-    ends = [*[start for start, struck, core in stretches], *[len(log)] * (changes + 2)]
-    backs = [*starts_back(table), *[0] * (changes + 2)]
+    ends = [start for start, struck, core in stretches] + [len(log)] * (changes + 2)
+    backs = starts_back(table) + [0] * (changes + 2)
     question = Question(table, len(log), case)
     known = {}
     found = []

@@ -96,26 +96,31 @@ def rivals_of(words):
     return [0, *[everything ^ found[word] for word in words]]
 
 
+def struck_once(sets, rivals, left, struck):
+    """Try each set of a list once; return the set of the entries left, and the list of the sets to be tried again."""
+    waiting = []
+    for met in sets:
+        here = left & met
+        if here and here & rivals[here.bit_length()]:
+            waiting.append(met)
+        elif here:
+            struck.append((met, here))
+            left = left ^ here
+    return (left, waiting)
+
+
 def struck_in(sets, rivals, chosen):
     """Strike entries of a set until no strike is possible; return the set of those left, and the list of the strikes.
 
     A strike is a tuple of the set that meets its condition and the set of the entries that it strikes.
     """
     left = chosen
-    struck = []
     waiting = sets
+    struck = []
     before = 0
     while left and left != before:
         before = left
-        tried = waiting
-        waiting = []
-        for met in tried:
-            here = left & met
-            if here and here & rivals[here.bit_length()]:
-                waiting.append(met)
-            elif here:
-                struck.append((met, here))
-                left = left ^ here
+        left, waiting = struck_once(waiting, rivals, left, struck)
     return (left, struck)
 
 
@@ -129,7 +134,12 @@ def can_strike(sets, rivals, chosen):
 
 
 class Table:
-    """The entries of a log and further cases, and the conditions of the strongest tests of the entries' cases."""
+    """The entries of a log and further cases, and the conditions of the strongest tests of the entries' cases.
+
+    The words are the answers of the entries, the set entered has all entries, and everything
+    the further cases, too. The dict made_of has the sets that meet the conditions as keys, and
+    for each the sets that meet its tests; the list sets has the same keys.
+    """
 
     def __init__(self, log, asked=()):
         entries = log.entries()
@@ -138,7 +148,7 @@ class Table:
         self.words = [answer for case, answer in entries]
         self.rivals = rivals_of(self.words)
         self.entered = (1 << len(entries)) - 1
-        self.everything = (1 << len(entries) + len(asked)) - 1
+        self.everything = (1 << (len(entries) + len(asked))) - 1
         self.columns = columns_of(log.kind, [*cases, *asked])
         self.named = {}
         # The rows are needed for conditions of two tests alone.

@@ -302,7 +302,7 @@ class LinesTest(SessionCase):
     def test_no_lines(self):
         for kind in (BARE, MIXED, THREE_FIELDS):
             session = Session(kind)
-            wrong = ["Log", "log ", " log", "log\n", "\nlog", "logs", "log log", "undo 1", "fits 0", "add", "add ", "ask\n", "desk", "lines", "trial", "-> no"]
+            wrong = ["Log", "log ", " log", "log\n", "\nlog", "logs", "log log", "undo 1", "fits 0", "add", "add ", "put", "put ", "moment", "change", "remove", "ask\n", "desk", "lines", "trial", "-> no"]
             for value in [*NEVER_VALID, *wrong, 0, ["log"], ("log",), {"log": 1}, session, b"log"]:
                 self.assert_raises_holding(InvalidLine, value, session.execute, value)
             self.assertEqual(session.lines(), [])
