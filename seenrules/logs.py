@@ -134,12 +134,12 @@ class Log:
         if len(places) == len(self.own_entries):
             return
         answers = [answer for case, answer in self.own_entries]
-        for first, entry in enumerate(self.own_entries):
-            later = places[entry[0]]
+        for first, (case, answer) in enumerate(self.own_entries):
+            later = places[case]
             # The entries of this case in front of this one have been taken out, so it is the first of those left.
             del later[0]
             for second in later:
-                if answers[second] != entry[1]:
+                if answers[second] != answer:
                     yield (first, second)
 
     def __str__(self):
